@@ -1,0 +1,1 @@
+"""Tidepond: a mill on ponds that the tide fills."""
