@@ -1,6 +1,7 @@
-"""The package keeps to the small part of Python that its language rules (L1 to L28) allow.
+"""The package keeps to the small part of Python that its language rules allow.
 
-Looked at is what a walk over the syntax tree can see; a rule that needs judgment is not."""
+Looked at are the plain forms of L1 to L8, L10, L12, L14 to L17, L19 to L21, L25 and L27. Not looked at, so to be kept
+by reading: L9, L11, L13, L18, L22 to L24, L26, L28, and whatever else of the others hangs on what a value is."""
 
 import ast
 import builtins
@@ -121,7 +122,35 @@ class TestLanguage(unittest.TestCase):
                 self.assertEqual(node.level, 0)
                 self.assertTrue((ROOT / (node.module.replace(".", "/") + ".py")).is_file())
                 self.assertTrue(node.module.startswith("tidepond."))
+                self.assertNotIn("*", [name.name for name in node.names])
         self.each(check)
+
+    def test_no_two_files_draw_from_one_another(self):
+        drawn = {}
+        for path in files():
+            rows = [node for node in nodes(path) if isinstance(node, ast.ImportFrom)]
+            drawn[path.stem] = {row.module.rpartition(".")[2] for row in rows}
+        for name in drawn:
+            reached = set()
+            ahead = set(drawn[name])
+            while ahead:
+                other = ahead.pop()
+                reached.add(other)
+                ahead |= drawn.get(other, set()) - reached
+            self.assertNotIn(name, reached)
+
+    def test_a_name_is_bound_once_at_the_top(self):
+        for path in files():
+            names = []
+            for node in ast.parse(path.read_text()).body:
+                if isinstance(node, ast.ImportFrom):
+                    names += [name.name for name in node.names]
+                elif isinstance(node, ast.Assign):
+                    names += bound_names(node.targets[0])
+                else:
+                    names += bound_names(node)
+            with self.subTest(file=path.name):
+                self.assertEqual(sorted(names), sorted(set(names)))
 
     def test_functions_and_classes(self):
         def check(node):
