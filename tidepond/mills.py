@@ -35,8 +35,12 @@ def is_pond(number, ponds):
     return 0 <= number < len(ponds)
 
 
+def is_sea(side):
+    return side == -1
+
+
 def is_side(number, ponds):
-    return number == -1 or is_pond(number, ponds)
+    return is_sea(number) or is_pond(number, ponds)
 
 
 def right_ring(rings, number):
