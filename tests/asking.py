@@ -2,11 +2,18 @@
 
 import unittest
 
-from tidepond.errors import NoMill
+from tidepond.errors import MillError, NoContent, NoLine, NoMill
 
 # Whole numbers that are handed in have at most sixty figures.
 FAR = 10 ** 60 - 1
 LAST_TURN = 10 ** 12
+FIELDS = {NoMill: ("word", "number"), NoLine: ("line", "word"), NoContent: ("pond",)}
+
+
+def refusal_of(error):
+    # Its very class, so that one under another is not taken for it.
+    kind = type(error)
+    return (kind.__name__, *[getattr(error, field) for field in FIELDS[kind]])
 
 
 class Asking(unittest.TestCase):
@@ -23,13 +30,10 @@ class Asking(unittest.TestCase):
         # By repr, so that True is not taken for 1 nor a list for a tuple.
         self.assertEqual(repr(self.ask(function, *handed)), repr(expected))
 
-    def refused(self, function, *handed):
+    def refuses(self, expected, function, *handed):
         before = repr(handed)
-        told = []
         for time in range(2):
-            with self.assertRaises(NoMill) as caught:
+            with self.assertRaises(MillError) as caught:
                 function(*handed)
-            told.append((caught.exception.word, caught.exception.number))
+            self.assertEqual(repr(refusal_of(caught.exception)), repr(expected))
             self.assertEqual(repr(handed), before)
-        self.assertEqual(repr(told[0]), repr(told[1]))
-        return told[0]

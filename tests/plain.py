@@ -1,4 +1,4 @@
-"""A plain reckoning of levels, gates, wheels and turns, to hold the program against, and many small mills.
+"""A plain reckoning of levels, gates, wheels, turns and runs, to hold the program against, and many small mills.
 
 It takes nothing from the program: heights are Python's own fractions, and what passes is searched for."""
 
@@ -74,6 +74,14 @@ def plain_turned(mill, contents, turn, setting, running):
     return (contents, log, ground)
 
 
+def plain_run(mill, contents, turn, plan):
+    done = []
+    for setting, running in plan:
+        done.append(plain_turned(mill, contents, turn + len(done), setting, running))
+        contents = done[-1][0]
+    return done
+
+
 def small_mill(draw):
     rings = tuple((draw.randrange(5), tuple(draw.randint(-3, 4) for height in range(draw.randint(1, 4))))
                   for ring in range(draw.randint(0, 2)))
@@ -102,3 +110,7 @@ def small_mills(many):
 
 def truths(draw, many):
     return tuple(draw.random() < 0.7 for each in range(many))
+
+
+def plan_of(draw, mill, turns):
+    return [(truths(draw, len(mill[2])), truths(draw, len(mill[3]))) for turn in range(turns)]

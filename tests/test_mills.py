@@ -150,7 +150,7 @@ class TestRightMills(Asking):
 
 class TestWrongMills(Asking):
     def wrong(self, word, number, mill):
-        self.assertEqual(repr(self.refused(right_mill, mill)), repr((word, number)))
+        self.refuses(("NoMill", word, number), right_mill, mill)
 
     def test_each_number_beyond_its_bounds(self):
         for (word, number), place, least, greatest in BOUNDS:
@@ -256,7 +256,7 @@ class TestWrongMills(Asking):
 
 class TestTheOrder(Asking):
     def wrong(self, refusal, mill):
-        self.assertEqual(repr(self.refused(right_mill, mill)), repr(refusal))
+        self.refuses(("NoMill", *refusal), right_mill, mill)
 
     def test_of_each_two_faults_the_first_is_told(self):
         for earlier, later in itertools.combinations(FAULTS, 2):
