@@ -2,12 +2,12 @@
 
 import unittest
 
-from tidepond.errors import MillError, NoContent, NoLine, NoMill
+from tidepond.errors import MillError, NoContent, NoLine, NoMill, NoTime
 
 # Whole numbers that are handed in have at most sixty figures.
 FAR = 10 ** 60 - 1
 LAST_TURN = 10 ** 12
-FIELDS = {NoMill: ("word", "number"), NoLine: ("line", "word"), NoContent: ("pond",)}
+FIELDS = {NoMill: ("word", "number"), NoLine: ("line", "word"), NoContent: ("pond",), NoTime: ("due", "most")}
 
 
 def refusal_of(error):

@@ -1,7 +1,7 @@
 """The package keeps to the small part of Python that its language rules allow.
 
-Looked at are the plain forms of L1 to L8, L10, L12, L14 to L17, L19 to L21, L25 and L27. Not looked at, so to be kept
-by reading: L9, L11, L13, L18, L22 to L24, L26, L28, and whatever else of the others hangs on what a value is."""
+Looked at are the plain forms of L1 to L8, L10, L12, L14 to L28. Not looked at, so to be kept by reading: L9, L11, L13,
+and whatever of the others hangs on what a value is."""
 
 import ast
 import builtins
@@ -37,6 +37,16 @@ EXPRESSIONS = (
     ast.Lambda)
 
 
+KEYWORDS = {"sorted": ("key", "reverse"), "min": ("key", "default"), "max": ("key", "default"), "sum": ("start",),
+            "enumerate": ("start",), "zip": ("strict",)}
+WALKED = ("zip", "enumerate", "reversed", "range", "items", "keys", "values")
+WALKERS = ("list", "tuple", "dict", "sorted", "sum", "any", "all", "enumerate", "zip", "min", "max", "join")
+VALUES_NOT_USED = set(
+    "items keys values pop update append clear extend insert remove reverse setdefault sort args encode format".split())
+OWN_METHODS = {name for kind in (str, int, list, dict, set, bytes, tuple) for name in dir(kind)}
+PLAIN = (ast.Constant, ast.List, ast.Tuple, ast.Dict, ast.Name)
+
+
 def files():
     return sorted(path for path in PACKAGE.rglob("*") if path.is_file() and "__pycache__" not in path.parts)
 
@@ -53,6 +63,16 @@ def bound_names(node):
     if isinstance(node, (ast.FunctionDef, ast.ClassDef)):
         return [node.name]
     return []
+
+
+def called(node):
+    if not isinstance(node, ast.Call):
+        return None
+    return node.func.id if isinstance(node.func, ast.Name) else getattr(node.func, "attr", None)
+
+
+def parents(path):
+    return [(parent, child) for parent in nodes(path) for child in ast.iter_child_nodes(parent)]
 
 
 class TestLanguage(unittest.TestCase):
@@ -196,6 +216,85 @@ class TestLanguage(unittest.TestCase):
                         self.assertNotIn(name.id, ("Exception", "TypeError"))
             if isinstance(node, ast.Raise):
                 self.assertIsInstance(node.exc, ast.Call)
+        self.each(check)
+
+    def test_values_at_the_top_are_plain(self):
+        for path in files():
+            made = [node.name for node in nodes(path) if isinstance(node, ast.FunctionDef)]
+            for node in ast.parse(path.read_text()).body:
+                if isinstance(node, ast.Assign):
+                    with self.subTest(file=path.name, line=node.lineno):
+                        for part in ast.walk(node.value):
+                            self.assertIsInstance(part, PLAIN + (ast.expr_context,))
+                            if isinstance(part, ast.Name):
+                                self.assertIn(part.id, made)
+                        for part in ast.iter_child_nodes(node.value):
+                            self.assertNotIsInstance(part, (ast.List, ast.Dict))
+
+    def test_no_local_is_called_like_a_class_or_an_import_of_its_file(self):
+        for path in files():
+            taken = []
+            for node in nodes(path):
+                if isinstance(node, ast.ImportFrom):
+                    taken += [name.name for name in node.names]
+                if isinstance(node, ast.ClassDef):
+                    taken.append(node.name)
+            for node in nodes(path):
+                if isinstance(node, (ast.Name, ast.arg)):
+                    with self.subTest(file=path.name, line=node.lineno):
+                        self.assertEqual(set(bound_names(node)) & set(taken), set())
+
+    def test_methods_and_values_of_classes(self):
+        methods = []
+        values = []
+        for path in files():
+            for node in nodes(path):
+                if isinstance(node, ast.ClassDef):
+                    methods += [part.name for part in node.body if isinstance(part, ast.FunctionDef)]
+                if isinstance(node, ast.Attribute) and isinstance(node.ctx, ast.Store):
+                    self.assertIsInstance(node.value, ast.Name)
+                    values.append(node.attr)
+        self.assertEqual(set(methods) & set(values), set())
+        self.assertEqual((set(methods) - SPECIAL) & OWN_METHODS, set())
+        self.assertEqual(set(values) & (VALUES_NOT_USED | OWN_METHODS), set())
+
+    def test_keywords(self):
+        def check(node):
+            if isinstance(node, ast.Call):
+                for keyword in node.keywords:
+                    self.assertIn(keyword.arg, KEYWORDS.get(called(node), ()))
+        self.each(check)
+
+    def test_what_is_called_is_not_kept(self):
+        for path in files():
+            for parent, child in parents(path):
+                if isinstance(child, ast.Name) and child.id in BUILTINS - {"ValueError"}:
+                    with self.subTest(file=path.name, line=child.lineno):
+                        is_key = isinstance(parent, ast.keyword) and parent.arg == "key"
+                        self.assertTrue(is_key or isinstance(parent, ast.Call) and parent.func is child)
+
+    def test_what_is_walked_at_once(self):
+        for path in files():
+            for parent, child in parents(path):
+                if called(child) in WALKED:
+                    with self.subTest(file=path.name, line=child.lineno):
+                        if isinstance(parent, (ast.For, ast.comprehension)):
+                            self.assertIs(parent.iter, child)
+                        else:
+                            self.assertIn(called(parent), WALKERS)
+
+    def test_sets_are_asked_on_the_spot(self):
+        for path in files():
+            for parent, child in parents(path):
+                if isinstance(child, ast.Set) or called(child) in ("set", "frozenset"):
+                    with self.subTest(file=path.name, line=child.lineno):
+                        self.assertTrue(isinstance(parent, ast.Compare) or called(parent) in ("sorted", "len"))
+
+    def test_init_gives_back_nothing(self):
+        def check(node):
+            if isinstance(node, ast.FunctionDef) and node.name in SPECIAL:
+                self.assertEqual(node.name, "__init__")
+                self.assertEqual([part for part in ast.walk(node) if isinstance(part, ast.Return)], [])
         self.each(check)
 
 

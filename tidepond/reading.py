@@ -2,8 +2,8 @@
 
 from tidepond.errors import NoContent, NoLine
 from tidepond.mills import holds, right_mill
+from tidepond.words import is_count, values_of
 
-FIGURES = "0123456789"
 MOST_FIGURES = 7
 # Which lines may follow which one; None stands for the place ahead of the first line.
 FOLLOWERS = {
@@ -22,12 +22,6 @@ FORMS = {
     "gate": ("side", "side", "number", "number"),
     "wheel": ("pond", "side", "number", "number", "number"),
 }
-
-
-def is_count(word, most):
-    if not 1 <= len(word) <= most or not all([sign in FIGURES for sign in word]):
-        return False
-    return word == "0" or not word.startswith("0")
 
 
 def is_number(word):
@@ -57,20 +51,8 @@ def value_of(word, kind, names):
     return names.index(word) if word in names else None
 
 
-def first_wrong(ahead, words, names):
-    if words[0] not in FOLLOWERS[ahead]:
-        return 0
-    form = form_of(words)
-    for number, kind in enumerate(form, start=1):
-        if number == len(words) or value_of(words[number], kind, names) is None:
-            return number
-    if len(words) > len(form) + 1:
-        return len(form) + 1
-    return None
-
-
-def row_of(words, names):
-    return tuple([value_of(word, kind, names) for word, kind in zip(words[1:], form_of(words))])
+def row_of(words, names, line):
+    return values_of(words, form_of(words), lambda word, kind: value_of(word, kind, names), line)
 
 
 def rows_of(lines):
@@ -78,12 +60,11 @@ def rows_of(lines):
     ahead = None
     for number, line in enumerate(lines):
         words = line.split(" ")
-        names = [pond[0] for pond in rows["pond"]]
-        wrong = first_wrong(ahead, words, names)
-        if wrong is not None:
-            raise NoLine(number, wrong)
+        if words[0] not in FOLLOWERS[ahead]:
+            raise NoLine(number, 0)
         ahead = words[0]
-        rows[ahead].append(row_of(words, names))
+        names = [pond[0] for pond in rows["pond"]]
+        rows[ahead].append(row_of(words, names, number))
     if len(rows["pond"]) == 0:
         raise NoLine(len(lines), 0)
     return rows

@@ -15,16 +15,17 @@ def gates_done(mill, contents, turn, setting):
 
 def wheels_done(mill, contents, turn, running):
     log = []
+    ground = 0
     for wheel, let_run in enumerate(running):
         if let_run and can_turn(mill, contents, turn, wheel):
             row = mill[3][wheel]
             contents = shifted(contents, row[0], row[1], row[3])
             log.append(("wheel", wheel))
-    return (contents, log)
+            ground += row[4]
+    return (contents, log, ground)
 
 
 def turned(mill, contents, turn, setting, running):
     gates = gates_done(mill, contents, turn, setting)
     wheels = wheels_done(mill, gates[0], turn, running)
-    ground = sum([mill[3][row[1]][4] for row in wheels[1]])
-    return (wheels[0], gates[1] + wheels[1], ground)
+    return (wheels[0], gates[1] + wheels[1], wheels[2])
